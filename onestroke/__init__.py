@@ -1,0 +1,1 @@
+"""Onestroke: books of keys, decided for all pressed rows."""
