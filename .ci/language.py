@@ -130,6 +130,8 @@ class Package:
             self.check_class(made)
         self.check_imports()
         self.check_calls()
+        self.check_recursion()
+        self.check_properties()
         return self.faults
 
     def check_text(self, path, text):
@@ -210,6 +212,11 @@ class Package:
 
     def check_call(self, path, node):
         name = name_of(node)
+        for inner in node.args:
+            if isinstance(inner, ast.Starred):
+                plain = isinstance(inner.value, (ast.Name, ast.List, ast.Tuple, ast.Constant))
+                if not (plain or isinstance(inner.value, ast.Attribute) and isinstance(inner.value.value, ast.Name)):
+                    self.fault("L7", path, node.lineno, "a star over something else than a name")
         if isinstance(node.func, ast.Attribute) and name not in METHODS | self.methods | self.attributes:
             if not (name in ("sort", "__init__", "format", "translate", "encode", "decode")):
                 self.fault("L25", path, node.lineno, f"the method {name}")
@@ -358,7 +365,7 @@ class Package:
                 self.fault("L16", module, 0, "files import from each other")
 
     def check_calls(self):
-        """No function calls itself, directly or through others, and what operators run changes nothing."""
+        """What operators run changes nothing. Methods of the same name are taken for one."""
         calls = {}
         for node in self.functions:
             inner = {name_of(call) for call in ast.walk(node) if isinstance(call, ast.Call)}
@@ -368,9 +375,6 @@ class Package:
                 if isinstance(node, ast.FunctionDef) and node.name == "__init__":
                     calls.setdefault(made.name, set()).update(calls["__init__"] & {
                         name_of(call) for call in ast.walk(node) if isinstance(call, ast.Call)})
-        for node in self.functions:
-            if node.name != "__init__" and node.name in reached(calls, node.name):
-                self.fault("L11", "package", node.lineno, f"{node.name} may call itself")
         run = set()
         for node in self.functions:
             marks = {name_of(mark) for mark in node.decorator_list}
@@ -380,6 +384,60 @@ class Package:
             for node in functions_of(tree):
                 if node.name in run and node.name != "__init__":
                     self.check_changes(path, node)
+
+    def above(self, name):
+        """A class and those above it."""
+        bases = {made: {name_of(base) for base in node.bases} for made, node in self.classes.items()}
+        return {name} | reached(bases, name)
+
+    def family(self, name):
+        """A class, those above it and those below it."""
+        return self.above(name) | {made for made in self.classes if name in self.above(made)}
+
+    def named(self, owner, call):
+        """The functions and methods that a call may call, as far as the names tell: body.text() is that of a Body."""
+        if isinstance(call.func, ast.Name):
+            name = call.func.id
+            return {f"{name}.__init__"} if name in self.classes else {name}
+        if not isinstance(call.func, ast.Attribute):
+            return set()
+        holder = call.func.value
+        owners = set(self.classes)
+        if isinstance(holder, ast.Name):
+            alike = [name for name in self.classes if name.lower() == holder.id]
+            if holder.id in self.classes:
+                owners = self.above(holder.id)
+            elif holder.id in ("self", "cls") and owner is not None:
+                owners = self.family(owner)
+            elif alike:
+                owners = self.family(alike[0])
+        elif name_of(holder) == "super" and owner is not None:
+            owners = self.above(owner) - {owner}
+        return {f"{name}.{call.func.attr}" for name in owners}
+
+    def check_recursion(self):
+        """No function calls itself, directly or through others."""
+        owners = {id(node): name for name, made in self.classes.items() for node in made.body}
+        calls = {}
+        for node in self.functions:
+            owner = owners.get(id(node))
+            inner = [call for call in ast.walk(node) if isinstance(call, ast.Call)]
+            name = node.name if owner is None else f"{owner}.{node.name}"
+            calls[name] = set().union(*[self.named(owner, call) for call in inner])
+        for name in sorted(calls):
+            if name in reached(calls, name):
+                self.fault("L11", "package", 0, f"{name} may call itself")
+
+    def check_properties(self):
+        """No attribute has the name of a property without a setter, and no function that of a generator."""
+        marked = {node.name: {name_of(mark) for mark in node.decorator_list} for node in self.functions}
+        setters = {node.name for node in self.functions if "setter" in {name_of(mark) for mark in node.decorator_list}}
+        for name, marks in sorted(marked.items()):
+            if "property" in marks and name in self.attributes and name not in setters:
+                self.fault("L5", "package", 0, f"{name} is a property and an attribute")
+        for name in sorted(self.generators):
+            if len([node for node in self.functions if node.name == name]) > 1 or name in self.attributes:
+                self.fault("L23", "package", 0, f"{name} is a generator and something else")
 
     def check_changes(self, path, node):
         """A function that an operator runs changes only what it created."""

@@ -11,11 +11,19 @@ def is_word(value):
     return value.isascii() and value.isalpha() and value.islower()
 
 
+def are_all_words(value):
+    """Whether a value is a list, or a tuple, of words."""
+    return isinstance(value, (list, tuple)) and all([is_word(word) for word in value])
+
+
 def are_words(value):
     """Whether a value is a list, or a tuple, of at most 1,000 words."""
-    if not isinstance(value, (list, tuple)) or len(value) > WORDS:
-        return False
-    return all([is_word(word) for word in value])
+    return isinstance(value, (list, tuple)) and len(value) <= WORDS and are_all_words(value)
+
+
+def is_pair_of_words(value):
+    """Whether a value is a tuple of two words."""
+    return isinstance(value, tuple) and len(value) == 2 and are_all_words(value)
 
 
 def is_whole(value):

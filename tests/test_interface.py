@@ -3,14 +3,36 @@
 import inspect
 import unittest
 
-from onestroke import rows
+from onestroke import bodies, books, patterns, rows, strokes
+from onestroke.bodies import Body, Go, Press, Say, Times
+from onestroke.books import Book, Chain
 from onestroke.rows import Row, is_letters, letters, row_of
+from onestroke.strokes import Ends, Never
 
 METHODS = {
     "part": ["self", "start", "many"], "common": ["self", "other"], "starts_with": ["self", "other"],
     "without": ["self", "beginning"], "listed": ["self", "start"],
 }
 FUNCTIONS = {"letters": ["row"], "is_letters": ["value"], "row_of": ["letters"]}
+
+# The arguments of functions, classes and methods of the other modules, as the document writes them.
+ARGUMENTS = {
+    patterns: {"times_in": "(row, pattern)", "place_of": "(row, pattern, index=0)", "places": "(row, pattern, start=0)"},
+    bodies: {
+        "Say": "(command)", "Press": "(key)", "Go": "(mode)", "Times": "(number, *items)", "Times.of": "(number, items)",
+        "Body": "(*items)", "Body.of": "(items)", "Body.read": "(text)", "Body.text": "(self)", "Say.text": "(self)",
+        "Press.text": "(self)", "Go.text": "(self)", "Times.text": "(self)",
+    },
+    books: {
+        "Book": "(first, rest=(), bodies=None)", "Book.take": "(self, mode, key)", "Book.set_first": "(self, mode)",
+        "Book.set_rest": "(self, modes)", "Book.copied": "(self)", "Book.text": "(self)", "Book.read": "(text)",
+        "Chain": "(*books)", "Chain.of": "(books)",
+    },
+    strokes: {
+        "Ends": "(row, state)", "Never": "(front, ring)", "Outcome.command_at": "(self, index)",
+        "Outcome.parting": "(self, other)", "stroke": "(system, state, key)", "loop_of": "(book, mode, key)",
+    },
+}
 
 
 class Interface(unittest.TestCase):
@@ -32,6 +54,38 @@ class Interface(unittest.TestCase):
             self.assertEqual(function.__module__, "onestroke.rows")
             self.assertEqual(list(inspect.signature(function).parameters), arguments, name)
         self.assertEqual(Row.__module__, "onestroke.rows")
+
+    def test_arguments_as_they_are_written(self):
+        for module, names in ARGUMENTS.items():
+            for name, arguments in names.items():
+                found = module
+                for part in name.split("."):
+                    found = getattr(found, part)
+                self.assertEqual(str(inspect.signature(found)), arguments, name)
+                self.assertEqual(found.__module__, module.__name__)
+
+    def test_places_is_a_generator(self):
+        self.assertTrue(inspect.isgenerator(patterns.places(Row("a"), ["a"])))
+        self.assertTrue(inspect.isgenerator(Row("a").listed()))
+
+    def test_methods_without_a_documented_result(self):
+        book = Book("m", [], {("m", "k"): Body()})
+        self.assertIsNone(book.set_first("n"))
+        self.assertIsNone(book.set_rest(["n"]))
+        self.assertIsNone(book.take("m", "k"))
+
+    def test_kinds_of_values(self):
+        book = Book("m", ["n"], {("m", "k"): Body(Say("x"))})
+        for value, kind in (
+            (Body().entries, tuple), (Body().depth, int), (len(Body()), int), (Body().text(), str), (Say("a").text(), str),
+            (Times(2).body, Body), (book.first, str), (book.rest, tuple), (book.modes, tuple), (book.bound, tuple),
+            (book.strokes, tuple), (book.text(), str), (book.copied(), Book), (book | book, Book), (book + book, Chain),
+            ((book + book).books, list), ((book + book).bound, tuple), (("m", "k") in book, bool), (book == book, bool),
+            (Go("a") == Press("a"), bool), (patterns.times_in(Row("a"), ["a"]), int), (strokes.stroke(book, "m", "k"), Ends),
+            (strokes.stroke(book, "m", "k").is_end, bool), (Never(Row(), Row("a")).command_at(5), str),
+            (Ends(Row("a"), "m").parting(Never(Row(), Row())), int),
+        ):
+            self.assertIs(type(value), kind)
 
     def test_arguments_by_name(self):
         row = Row.of(words=["a", "b", "c"])
