@@ -15,60 +15,48 @@ class Search(Walk):
         self.pattern = list(pattern)
         self.moves = moves_of(self.pattern)
         self.sizes = sizes_in(self.nodes)
-        # How often the last word of the pattern is met in each unit.
+        # How often the last word of the pattern is met in each unit, and the pieces (unit, times) of each longer one.
         self.counts = {}
-        # All of the row, as parts.
+        self.pieces = {}
         self.whole = []
         if len(self.nodes) > 0:
             unit = self.entered(len(self.nodes) - 1, 0)
             self.finish(unit)
-            self.whole = [((unit,), 1)]
+            self.whole = [(unit, 1)]
         for unit in self.parts:
-            self.counts[unit] = sum([self.count_in(units) * times for units, times in self.parts[unit]])
+            # Where a letter comes again and again, its last words soon settle the state: a ring is one unit.
+            self.pieces[unit] = [(units[0], times) for units, times in self.parts[unit]]
+            self.counts[unit] = sum([self.counts[inner] * times for inner, times in self.pieces[unit]])
 
     def entered(self, index, state):
         """The unit of an entry. The leaves are words."""
-        unit = (index, state)
         entry = self.nodes[index]
-        if unit not in self.ends and isinstance(entry, str):
+        if isinstance(entry, str):
             after = self.moves[entry][state] if entry in self.moves else 0
-            self.ends[unit] = after
-            self.counts[unit] = 1 if after == len(self.pattern) else 0
-        return unit
-
-    def count_in(self, units):
-        """How often the last word of the pattern is met in units."""
-        return sum([self.counts[unit] for unit in units])
-
-    def size_of(self, units):
-        """How many words units have."""
-        return sum([self.sizes[unit[0]] for unit in units])
+            self.ends[(index, state)] = after
+            self.counts[(index, state)] = 1 if after == len(self.pattern) else 0
+        return (index, state)
 
     def total(self):
         """How often the pattern occurs in the row."""
-        return sum([self.count_in(units) for units, _ in self.whole])
+        return sum([self.counts[unit] for unit, _ in self.whole])
 
     def place(self, index):
         """The place of the occurrence with this index, which there is."""
-        parts = self.whole
+        pieces = self.whole
         place = 0
         while True:
-            for units, times in parts:
-                many = self.count_in(units)
+            for unit, times in pieces:
+                many = self.counts[unit]
                 if index < many * times:
                     break
                 index = index - many * times
-                place = place + self.size_of(units) * times
-            place = place + index // many * self.size_of(units)
+                place = place + self.sizes[unit[0]] * times
+            place = place + index // many * self.sizes[unit[0]]
             index = index % many
-            for unit in units:
-                if index < self.counts[unit]:
-                    break
-                index = index - self.counts[unit]
-                place = place + self.sizes[unit[0]]
-            if unit not in self.parts:
+            if unit not in self.pieces:
                 return place + 1 - len(self.pattern)
-            parts = self.parts[unit]
+            pieces = self.pieces[unit]
 
 
 def overlap(words, pattern):
@@ -118,24 +106,22 @@ def places(row, pattern, start=0):
     """All places of a pattern from a place on, ascending."""
     check_pattern(pattern, start)
     search = Search(row, pattern)
-    # From a first word to the place behind the last one. The list that was passed may be changed meanwhile.
+    # From a first word to the place behind the last one. The list that was skipped may be changed meanwhile.
     many = len(search.pattern)
     least = start + many - 1
     place = 0
     todo = list(search.whole)
     while todo:
-        units, times = todo.pop()
-        size = search.size_of(units)
-        passed = times if search.count_in(units) == 0 else min(times, max(least - place, 0) // size)
-        place = place + passed * size
-        if passed == times:
+        unit, times = todo.pop()
+        size = search.sizes[unit[0]]
+        skipped = times if search.counts[unit] == 0 else min(times, max(least - place, 0) // size)
+        place = place + skipped * size
+        if skipped == times:
             continue
-        if times - passed > 1:
-            todo.append((units, times - passed - 1))
-        if len(units) > 1:
-            todo.extend([((unit,), 1) for unit in units[::-1]])
-        elif units[0] in search.parts:
-            todo.extend(search.parts[units[0]][::-1])
+        if times - skipped > 1:
+            todo.append((unit, times - skipped - 1))
+        if unit in search.pieces:
+            todo.extend(search.pieces[unit][::-1])
         else:
             place = place + 1
             yield place - many

@@ -12,7 +12,7 @@ DIGITS = "0123456789"
 LETTERS = 8
 FIGURES = 10
 # What stands ahead of the next sign.
-OPEN = "open"
+OPEN = "opened"
 SPACE = "space"
 SIGN = "sign"
 WORD = "word"
@@ -57,7 +57,7 @@ def fault_in(text):
             depth = depth + 1
         elif found == CLOSED:
             depth = depth - 1
-        elif found == NUMBER and last != NUMBER and sign == "0":
+        elif sign == "0" and last != NUMBER:
             long = 0
         else:
             long = long + 1 if found == last else 1

@@ -39,7 +39,7 @@ class Line:
     def put_wheel(self, wheel, times, behind):
         """Puts letters behind the line, so many times, and letters behind them, with which the next turn may begin."""
         wheel = runs_of(wheel)
-        if len(wheel) == 1 and times > 0:
+        if len(wheel) == 1:
             behind = [(wheel[0][0], wheel[0][1] * times)] + behind
             times = 0
         elif wheel[0][0] == wheel[-1][0] and times > 0:

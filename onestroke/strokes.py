@@ -1,7 +1,7 @@
 """Strokes of books and chains, and their outcomes."""
 
 from onestroke.books import Book, books_of
-from onestroke.errors import InvalidWords, OutOfRange, UnknownState
+from onestroke.errors import InvalidWords, UnknownState
 from onestroke.playing import Play, Stream, passed
 from onestroke.rows import Row
 from onestroke.spinning import rows_of
@@ -9,11 +9,15 @@ from onestroke.values import is_whole, is_word
 
 
 class Outcome:
-    """What becomes of a stroke. Its commands are a front, and a ring that comes again and again behind it."""
+    """What becomes of a stroke: a front of commands, a ring that comes again and again, and the state at the end.
 
-    def __init__(self, front, ring):
+    Without an end the state is None.
+    """
+
+    def __init__(self, front, ring, state):
         self._front = front
         self._ring = ring
+        self._state = state
 
     @property
     def is_end(self):
@@ -21,7 +25,7 @@ class Outcome:
         return isinstance(self, Ends)
 
     def __eq__(self, other):
-        return isinstance(other, Outcome) and self.is_end == other.is_end and parting_of(self, other) is None
+        return isinstance(other, Outcome) and self._state == other._state and parting_of(self, other) is None
 
     def command_at(self, index):
         """The command with this index."""
@@ -36,8 +40,7 @@ class Ends(Outcome):
     """The stroke ends: with these commands, at this state."""
 
     def __init__(self, row, state):
-        Outcome.__init__(self, row, Row())
-        self._state = state
+        Outcome.__init__(self, row, Row(), state)
 
     @property
     def row(self):
@@ -70,7 +73,7 @@ class Never(Outcome):
     """The stroke never ends: after the front, the ring comes again and again."""
 
     def __init__(self, front, ring):
-        Outcome.__init__(self, front, ring)
+        Outcome.__init__(self, front, ring, None)
 
     @property
     def front(self):
@@ -101,13 +104,9 @@ class Never(Outcome):
 
 def command_in(front, ring, index):
     """The command with this index of a front and a ring behind it."""
-    if not is_whole(index) or index < 0:
-        raise OutOfRange(index)
-    if index < front.size:
-        return front[index]
-    if ring.size == 0:
-        raise OutOfRange(index)
-    return ring[(index - front.size) % ring.size]
+    if is_whole(index) and index >= front.size and ring.size > 0:
+        return ring[(index - front.size) % ring.size]
+    return front[index]
 
 
 def parting_of(one, other):
@@ -156,11 +155,11 @@ def ring_from(ring, many):
 def is_state(system, state):
     """Whether any value is a state of the system."""
     if isinstance(system, Book):
-        return is_word(state) and state in system.modes
+        return state in system.modes
     books = books_of(system)
     if not isinstance(state, tuple) or len(state) != len(books):
         return False
-    return all([is_word(mode) and mode in book.modes for book, mode in zip(books, state)])
+    return all([mode in book.modes for book, mode in zip(books, state)])
 
 
 def check_stroke(system, state, key):

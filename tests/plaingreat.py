@@ -3,12 +3,26 @@
 Bodies are plain as in plainplay. The tests compare the package with it where plainplay would take too long.
 """
 
+import functools
 import sys
 
 from onestroke.rows import Row
 
-# The trees are as deep as their strokes are within one another.
-sys.setrecursionlimit(20000)
+
+def deeply(function):
+    """The function with a higher limit of recursion, as trees are as deep as strokes are within one another.
+
+    The limit is set back then: what the package does must not rest on it.
+    """
+    @functools.wraps(function)
+    def called(*given):
+        limit = sys.getrecursionlimit()
+        sys.setrecursionlimit(20000)
+        try:
+            return function(*given)
+        finally:
+            sys.setrecursionlimit(limit)
+    return called
 
 
 class Node:
@@ -42,6 +56,7 @@ def size(node):
     return 0 if node is None else node.size
 
 
+@deeply
 def row_of(node):
     return Row() if node is None else node.row({})
 
@@ -136,6 +151,7 @@ def many_times(number, mode, action):
     return said, mode, None
 
 
+@deeply
 def stroke(books, modes, key):
     """(front, ring, None) or (node, None, modes): of a chain of plain books, from a tuple of modes."""
     front, ring = Node(None, None, key), None

@@ -242,6 +242,14 @@ class Great(unittest.TestCase):
             self.assertEqual(sum(times_in(found.row, [word]) for word in "xyz"), found.row.size)
         self.within(30)
 
+    def test_many_small_calls(self):
+        book = Book("m", ["m"], {("m", "a"): Body(Times(NUMBER, Press("b"))), ("m", "b"): Body(Say("x"), Go("n")),
+                                 ("n", "b"): Body(Say("y"), Go("m")), ("m", "c"): Body(Say("z"), Press("c"))})
+        for _ in range(2000):
+            self.assertEqual(stroke(book, "m", "a").state, "m")
+            self.assertFalse(stroke(book, "m", "c").is_end)
+        self.within(20)
+
     def test_the_greatest_rings(self):
         draw = plain.drawing(125)
         bodies, order = deep_bodies(draw, 6, ("x", "y", "z"))

@@ -6,7 +6,7 @@ import unittest
 from onestroke.errors import OutOfRange
 from onestroke.limits import SIZE
 from onestroke.rows import Row
-from onestroke.strokes import Ends, Never
+from onestroke.strokes import Ends, Never, Outcome
 from test_great import great_row
 from values import NO_INTEGERS, refused
 import plain
@@ -122,6 +122,18 @@ class Outcomes(unittest.TestCase):
                 self.assertIs(one == value, False)
                 self.assertIs(value == one, False)
                 self.assertIs(one != value, True)
+
+    def test_the_class_above_tells_the_same(self):
+        made = [Ends(Row(), "m"), Ends(Row("a"), "m"), Never(Row(), Row()), Never(Row(), Row("a")), Never(Row("a"), Row("a", "a")),
+                Ends(Row("a"), "n")]
+        for one in made:
+            self.assertIs(Outcome.is_end.fget(one), one.is_end)
+            for other in made:
+                self.assertIs(Outcome.__eq__(one, other), one == other)
+                self.assertEqual(Outcome.parting(one, other), one.parting(other))
+            self.assertIs(Outcome.__eq__(one, Row()), False)
+        self.assertEqual([Outcome.command_at(one, 0) for one in made if one not in made[:3:2]], ["a"] * 4)
+        refused(self, OutOfRange, {"value": 1}, lambda: Outcome.command_at(made[1], 1))
 
     def test_great_fronts_and_rings(self):
         draw = plain.drawing(112)

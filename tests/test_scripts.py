@@ -2,9 +2,14 @@
 
 import unittest
 
+from onestroke.bodies import Body, Go, Say
+from onestroke.books import Book
+from onestroke.patterns import times_in
+from onestroke.playing import Play, Stream
 from onestroke.rows import Row, letters, row_of
 from onestroke.scripts import EMPTY, Script
 from onestroke.spinning import rows_of
+from onestroke.strokes import outcome_of
 from test_great import great_row
 from test_time import growing_letters
 import plain
@@ -66,6 +71,19 @@ class Scripts(unittest.TestCase):
             self.assertEqual([one.size for one in found], [one.size for one in summed(entries)])
         entries = growing_letters(201)
         self.same(rows_of(entries, [len(entries) - 1])[0], row_of(entries))
+
+    def test_rows_of_many_levels_that_are_pressed(self):
+        book = Book("m", [], {("m", "a"): Body(Say("x")), ("m", "b"): Body(Say("y"), Go("n")), ("n", "b"): Body(Say("y"), Go("m"))})
+        book["n", "a"] = Body(Say("x"))
+        entries = growing_letters(401)
+        found = outcome_of(book, "m", Stream(entries, len(entries) - 1, None))
+        self.assertEqual(letters(found.row), ["x", "y"] + entries[2:])
+        many = times_in(found.row, ["y"])
+        self.assertEqual(found.state, "mn"[many % 2])
+        # All levels are gone through without any recursion.
+        deep = growing_letters(8001)
+        play = Play(deep, book)
+        self.assertIsNone(play.finish(play.entered(len(deep) - 1, "m")))
 
     def test_nothing(self):
         self.assertEqual(rows_of([], [EMPTY, EMPTY]), [Row(), Row()])
