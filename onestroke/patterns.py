@@ -23,7 +23,7 @@ class Search(Walk):
             unit = self.entered(len(self.nodes) - 1, 0)
             self.finish(unit)
             self.whole = [(unit, 1)]
-        for unit in self.parts:
+        for unit in list(self.parts):
             # Where a letter comes again and again, its last words soon settle the state: a ring is one unit.
             self.pieces[unit] = [(units[0], times) for units, times in self.parts[unit]]
             self.counts[unit] = sum([self.counts[inner] * times for inner, times in self.pieces[unit]])

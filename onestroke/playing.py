@@ -95,7 +95,7 @@ class Told:
 
     def stream(self, start, cycle):
         """The stream of parts, and of parts that come again and again, or None."""
-        for unit in self.play.parts:
+        for unit in list(self.play.parts):
             self.indexes[unit] = self.said(self.play.parts[unit])
         again = None if cycle is None else self.said(cycle)
         return Stream(self.script.nodes, self.said(start), again)

@@ -91,11 +91,12 @@ def first_line(pairs, nodes, place):
 
 def opened_line(line, opened):
     """The same line with the letters that move into it."""
+    stretches, cores = list(line.stretches), list(line.cores)
     result = Line([[]], [])
-    for stretch, core in zip(line.stretches, line.cores):
+    for stretch, core in zip(stretches, cores):
         result.put(stretch)
         result.put_opened(core, opened)
-    result.put(line.stretches[-1])
+    result.put(stretches[-1])
     return Line([runs_of(stretch) for stretch in result.stretches], result.cores)
 
 
