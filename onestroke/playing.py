@@ -20,26 +20,34 @@ class Stream:
 
 
 class Play(Walk):
-    """A walk in a book. The states are modes; the leaves are words that are pressed, Say and Go items."""
+    """A walk in a book. The states are modes; the leaves are words that are pressed, Say and Go items.
+
+    The entries that are pressed may grow meanwhile. Those of bodies are told apart by indexes below that of nothing.
+    """
 
     def __init__(self, nodes, source):
-        Walk.__init__(self, list(nodes))
+        Walk.__init__(self, nodes)
         self.source = source
+        self.own = []
         self.programs = {}
         self.units = {}
 
+    def entry_at(self, index):
+        """The entry with an index."""
+        return self.nodes[index] if index > EMPTY else self.own[EMPTY - 1 - index]
+
     def pairs_at(self, index):
         """The pairs of an entry that is no leaf. A body is looked at when it is done for the first time."""
-        entry = self.nodes[index]
+        entry = self.entry_at(index)
         if isinstance(entry, Body):
             entry = tuple([self.pair_of(item) for item in entry.entries])
-            self.nodes[index] = entry
+            self.own[EMPTY - 1 - index] = entry
         return entry
 
     def added(self, entry):
-        """The index of a new entry."""
-        self.nodes.append(entry)
-        return len(self.nodes) - 1
+        """The index of a new entry of a body."""
+        self.own.append(entry)
+        return EMPTY - len(self.own)
 
     def pair_of(self, item):
         """The pair of an item."""
@@ -55,7 +63,7 @@ class Play(Walk):
 
     def unit_of(self, index, state):
         """The same where it is asked for the first time."""
-        entry = self.nodes[index]
+        entry = self.entry_at(index)
         if isinstance(entry, str) and (state, entry) in self.source:
             return (self.program_of((state, entry)), state)
         if isinstance(entry, (str, Say)):
@@ -78,11 +86,13 @@ class Told:
         self.play = play
         self.script = Script()
         self.indexes = {}
+        # So many of the units that were done are written.
+        self.many = 0
 
     def index_of(self, unit):
         """The index of what a unit says."""
         if unit not in self.indexes:
-            entry = self.play.nodes[unit[0]]
+            entry = self.play.entry_at(unit[0])
             self.indexes[unit] = self.script.written(entry.command) if isinstance(entry, Say) else EMPTY
         return self.indexes[unit]
 
@@ -93,10 +103,15 @@ class Told:
             pairs.append((self.script.summed([(self.index_of(unit), 1) for unit in units]), times))
         return self.script.summed(pairs)
 
+    def catch_up(self):
+        """Writes what the units say that were done since then."""
+        for unit in self.play.finished[self.many:]:
+            self.indexes[unit] = self.said(self.play.parts[unit])
+        self.many = len(self.play.finished)
+
     def stream(self, start, cycle):
         """The stream of parts, and of parts that come again and again, or None."""
-        for unit in list(self.play.parts):
-            self.indexes[unit] = self.said(self.play.parts[unit])
+        self.catch_up()
         again = None if cycle is None else self.said(cycle)
         return Stream(self.script.nodes, self.said(start), again)
 
@@ -140,3 +155,40 @@ def passed(stream, source, mode):
     play = Play(stream.nodes, source)
     start, cycle, mode = done_by(play, stream, mode)
     return Told(play).stream(start, cycle), mode
+
+
+class Player:
+    """Words that are pressed in books, with the commands of each one in the next one, as far as the strokes end."""
+
+    def __init__(self, books):
+        self.pressed = []
+        self.told = []
+        self.known = {}
+        nodes = self.pressed
+        for book in books:
+            self.told.append(Told(Play(nodes, book)))
+            nodes = self.told[-1].script.nodes
+        self.script = self.told[-1].script
+
+    def press(self, modes, word):
+        """What the stroke of a word says, as an index in the script, and the modes behind it; None if it never ends."""
+        if (modes, word) not in self.known:
+            self.known[(modes, word)] = self.played(modes, word)
+        return self.known[(modes, word)]
+
+    def played(self, modes, word):
+        """The same where it is asked for the first time."""
+        if word not in self.pressed:
+            self.pressed.append(word)
+        index = self.pressed.index(word)
+        ends = []
+        for told, mode in zip(self.told, modes):
+            if index != EMPTY:
+                unit = told.play.entered(index, mode)
+                if told.play.finish(unit) is not None:
+                    return None
+                told.catch_up()
+                index = told.index_of(unit)
+                mode = told.play.ends[unit]
+            ends.append(mode)
+        return index, tuple(ends)

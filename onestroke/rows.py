@@ -143,3 +143,26 @@ def row_of(letters):
         raise InvalidWords(letters)
     size = sizes_of(tables)[-1][0] if tables else 0
     return row_with(tables, size)
+
+
+def together(one, other):
+    """The row of two rows, one behind the other, of any size."""
+    return row_with(joined(one._tables, other._tables), one._size + other._size)
+
+
+def row_of_words(words):
+    """The row of a list of words, of any length."""
+    return row_with(tables_of_words(words), len(words))
+
+
+def mark_of(row):
+    """A value that is the same for equal rows and may be a key of a dict."""
+    return row._tables
+
+
+def row_of_all(rows):
+    """The row of all rows of a list, one behind the other, of any size. Neighbours are put together first."""
+    while len(rows) > 1:
+        pairs = [together(one, other) for one, other in zip(rows[::2], rows[1::2])]
+        rows = pairs + rows[len(pairs) * 2:]
+    return rows[0] if rows else Row()

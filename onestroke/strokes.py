@@ -1,10 +1,11 @@
 """Strokes of books and chains, and their outcomes."""
 
-from onestroke.books import Book, books_of
-from onestroke.errors import InvalidWords, UnknownState
+from onestroke.books import books_of
+from onestroke.errors import InvalidWords
 from onestroke.playing import Play, Stream, passed
 from onestroke.rows import Row
-from onestroke.spinning import rows_of
+from onestroke.strands import rows_of
+from onestroke.systems import check_state, modes_in, state_with
 from onestroke.values import is_whole, is_word
 
 
@@ -152,34 +153,22 @@ def ring_from(ring, many):
     return ring.part(at, ring.size - at) + ring.part(0, at)
 
 
-def is_state(system, state):
-    """Whether any value is a state of the system."""
-    if isinstance(system, Book):
-        return state in system.modes
-    books = books_of(system)
-    if not isinstance(state, tuple) or len(state) != len(books):
-        return False
-    return all([mode in book.modes for book, mode in zip(books, state)])
-
-
 def check_stroke(system, state, key):
     """The errors of a state and a key."""
-    if not is_state(system, state):
-        raise UnknownState(state)
+    check_state(system, state)
     if not is_word(key):
         raise InvalidWords(key)
 
 
 def outcome_of(system, state, stream):
     """What becomes of a stream that is pressed in a system from a state on."""
-    modes = [state] if isinstance(system, Book) else list(state)
     ends = []
-    for book, mode in zip(books_of(system), modes):
+    for book, mode in zip(books_of(system), modes_in(system, state)):
         stream, end = passed(stream, book, mode)
         ends.append(end)
     if stream.cycle is None:
         row = rows_of(stream.nodes, [stream.start])[0]
-        return Ends(row, ends[0] if isinstance(system, Book) else tuple(ends))
+        return Ends(row, state_with(system, ends))
     front, ring = rows_of(stream.nodes, [stream.start, stream.cycle])
     return Never(front, ring)
 

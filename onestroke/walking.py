@@ -26,6 +26,8 @@ class Walk:
         self.nodes = nodes
         self.ends = {}
         self.parts = {}
+        # The units that have parts, each behind those that it is made of.
+        self.finished = []
 
     def pairs_at(self, index):
         """The pairs of an entry that is no leaf."""
@@ -50,6 +52,7 @@ class Walk:
             if needed is None:
                 self.ends[frame.unit] = frame.now
                 self.parts[frame.unit] = frame.parts
+                self.finished.append(frame.unit)
                 del is_open[frame.unit]
                 frames.pop()
             elif needed in is_open:

@@ -1,4 +1,4 @@
-"""onestroke/spinning.py and onestroke/scripts.py: entries that are folded all together, against sums of rows."""
+"""onestroke/weaving.py and onestroke/scripts.py: entries that are folded all together, against sums of rows."""
 
 import unittest
 
@@ -8,7 +8,7 @@ from onestroke.patterns import times_in
 from onestroke.playing import Play, Stream
 from onestroke.rows import Row, letters, row_of
 from onestroke.scripts import EMPTY, Script
-from onestroke.spinning import rows_of
+from onestroke.strands import rows_of
 from onestroke.strokes import outcome_of
 from test_great import great_row
 from test_time import growing_letters
