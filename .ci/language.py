@@ -126,6 +126,7 @@ class Package:
                 self.check_node(path, node)
             for node in functions_of(tree):
                 self.check_function(path, node)
+                self.check_plain_methods(path, node)
             self.check_parents(path, tree)
             self.check_names(path, tree)
         for made in self.classes.values():
@@ -262,6 +263,26 @@ class Package:
             self.fault("L5", path, node.lineno, node.name)
         if node.name in OPERATORS | IN_PLACE and len(spots.args) + len(spots.kwonlyargs) + len(spots.defaults) > 3:
             self.fault("L5", path, node.lineno, f"the parameters of {node.name}")
+
+    def check_plain_methods(self, path, node):
+        """What __exit__ does, and that __eq__, __len__ and their kin assign nothing."""
+        if node.name in ("__eq__", "__len__", "__repr__", "__str__"):
+            for inner in ast.walk(node):
+                if isinstance(inner, (ast.Assign, ast.AugAssign, ast.Delete)):
+                    self.fault("L28", path, inner.lineno, f"{node.name} assigns")
+        if node.name != "__exit__":
+            return
+        for inner in ast.walk(node):
+            if isinstance(inner, ast.stmt) and not isinstance(inner, (ast.Assign, ast.If, ast.Expr, ast.FunctionDef, ast.Pass)):
+                self.fault("L6", path, inner.lineno, f"{type(inner).__name__} in __exit__")
+            if isinstance(inner, (ast.BinOp, ast.UnaryOp, ast.Subscript, ast.AugAssign)):
+                self.fault("L6", path, inner.lineno, "a sign in __exit__")
+            if isinstance(inner, ast.Call) and name_of(inner) not in ("append", "clear"):
+                self.fault("L6", path, inner.lineno, "a call in __exit__")
+            if isinstance(inner, ast.Compare) and not isinstance(inner.ops[0], (ast.Is, ast.IsNot)):
+                self.fault("L6", path, inner.lineno, "a comparison in __exit__")
+            if isinstance(inner, ast.If) and not all(isinstance(part, ast.Compare) for part in tests_of(inner.test)):
+                self.fault("L6", path, inner.lineno, "a test in __exit__ that is none of is None")
 
     def check_parents(self, path, tree):
         """What stands only in certain places: views, sets, generators."""
@@ -438,6 +459,11 @@ class Package:
         for name, marks in sorted(marked.items()):
             if "property" in marks and name in self.attributes and name not in setters:
                 self.fault("L5", "package", 0, f"{name} is a property and an attribute")
+        plain = {node.name for node in self.functions if node.name in self.methods and "property" not in marked[node.name]}
+        for node in self.functions:
+            named = {name_of(mark) for mark in node.decorator_list}
+            if "property" in named and node.name in plain:
+                self.fault("L5", "package", node.lineno, f"{node.name} is a property and a method")
         for name in sorted(self.generators):
             if len([node for node in self.functions if node.name == name]) > 1 or name in self.attributes:
                 self.fault("L23", "package", 0, f"{name} is a generator and something else")
@@ -471,6 +497,13 @@ class Package:
                 self.fault("L5", path, inner.lineno, f"{node.name} adds in place")
             if isinstance(inner, (ast.Yield, ast.YieldFrom, ast.Global)):
                 self.fault("L5", path, inner.lineno, f"{node.name} yields")
+
+
+def tests_of(test):
+    """The tests that are joined by and and or."""
+    if isinstance(test, ast.BoolOp):
+        return [part for value in test.values for part in tests_of(value)]
+    return [test]
 
 
 def is_new(value, classes):

@@ -161,10 +161,11 @@ class Player:
     """Words that are pressed in books, with the commands of each one in the next one, as far as the strokes end."""
 
     def __init__(self, books):
-        self.pressed = []
+        # The keys of the first book are the entries that are pressed. Other words do nothing.
+        self.alphabet = list(books[0].bound)
         self.told = []
         self.known = {}
-        nodes = self.pressed
+        nodes = self.alphabet
         for book in books:
             self.told.append(Told(Play(nodes, book)))
             nodes = self.told[-1].script.nodes
@@ -172,15 +173,14 @@ class Player:
 
     def press(self, modes, word):
         """What the stroke of a word says, as an index in the script, and the modes behind it; None if it never ends."""
+        if word not in self.alphabet:
+            return EMPTY, modes
         if (modes, word) not in self.known:
-            self.known[(modes, word)] = self.played(modes, word)
+            self.known[(modes, word)] = self.played(modes, self.alphabet.index(word))
         return self.known[(modes, word)]
 
-    def played(self, modes, word):
-        """The same where it is asked for the first time."""
-        if word not in self.pressed:
-            self.pressed.append(word)
-        index = self.pressed.index(word)
+    def played(self, modes, index):
+        """The same where it is asked for the first time, for the entry of the word."""
         ends = []
         for told, mode in zip(self.told, modes):
             if index != EMPTY:

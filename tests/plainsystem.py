@@ -192,3 +192,13 @@ def some_system(draw, books=None, modes=4, keys=3):
         system = Plain(found)
         if len(system.states) <= 36 and is_small(system):
             return system
+
+
+def late_system(draw):
+    """A plain system of one book in which much is certain long before the next rest."""
+    while True:
+        modes = MODES[:draw.randint(3, 5)]
+        first, _, bodies = table_book(draw, modes, KEYS[:draw.choice((1, 2, 2))], ("x",) if draw.random() < 0.6 else ("x", "y"), 3, 0.8)
+        system = Plain([(first, modes[-1:], bodies)])
+        if system.first in system.alive() and any(system.certain().values()):
+            return system

@@ -1,15 +1,20 @@
 """Values of any kind, objects of the package among them, for calls that are refused."""
 
+from onestroke.boards import Board
 from onestroke.bodies import Body, Go, Press, Say, Times
 from onestroke.books import Book, Chain
+from onestroke.desks import Desk
 from onestroke.errors import NotBeginning
 from onestroke.rows import Row
+from onestroke.sites import Site
+from onestroke.smallest import smallest
 from onestroke.strokes import Ends, Never
 import plain
 
 OBJECTS = (
     Row(), Row("a"), Row("a", "b") * 10 ** 30, Body(), Body(Say("a")), Say("a"), Press("a"), Go("a"), Times(1), Book("a"),
     Chain(Book("a"), Book("b")), Ends(Row("a"), "a"), Never(Row(), Row("a")), NotBeginning(),
+    smallest(Book("a", ["a"])), Board(Book("a")), Site(Book("a")), Site(Book("a")).trial(), Desk(Site(Book("a"))),
 )
 
 ANY = plain.ODD + OBJECTS
