@@ -136,6 +136,56 @@ def first_parting(one, other, most):
     return None
 
 
+def left_over(one, other):
+    """Two rows without their longest common beginning."""
+    many = plain.common_of(one, other)
+    return tuple(one[many:]), tuple(other[many:])
+
+
+def is_apart(one, other, place):
+    """Whether what was pressed so far parts two plain systems."""
+    state, more, delay = place
+    rests = [state is not None and one.is_rest(state), more is not None and other.is_rest(more)]
+    return rests[0] != rests[1] or rests[0] and delay != ((), ())
+
+
+def step_from(system, state, key):
+    """The commands of a key and the next state, None if it is not alive."""
+    if state is None or key not in system.bound:
+        return [], state
+    said, _, after = system.stroke(state, key)
+    return said, after if after in system.alive() else None
+
+
+def exact_parting(one, other, most):
+    """The same as by first_parting, also for many keys, by breadth over states and delays; at most so many of these."""
+    starts = [system.first if system.first in system.alive() else None for system in (one, other)]
+    todo = [(starts[0], starts[1], ((), ()))]
+    seen = set(todo)
+    many = 0
+    while todo:
+        if any(is_apart(one, other, place) for place in todo):
+            return many
+        reached = []
+        for state, more, delay in todo:
+            for key in sorted(set(one.bound + other.bound)):
+                (said, after), (told, behind) = step_from(one, state, key), step_from(other, more, key)
+                if after is None and behind is None:
+                    continue
+                left = None
+                if after is not None and behind is not None and delay is not None:
+                    left = left_over(list(delay[0]) + said, list(delay[1]) + told)
+                    left = None if left[0] and left[1] else left
+                if (after, behind, left) not in seen:
+                    seen.add((after, behind, left))
+                    reached.append((after, behind, left))
+        if len(seen) > most:
+            raise OverflowError(most)
+        todo = reached
+        many += 1
+    return None
+
+
 MODES = ("m", "n", "o", "p", "q", "r")
 KEYS = ("a", "b", "k", "l")
 COMMANDS = ("x", "y", "z")

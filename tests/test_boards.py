@@ -112,12 +112,12 @@ class Drawn(unittest.TestCase):
     def test_strokes_that_never_end(self):
         draw = plain.drawing(412)
         ends = 0
-        for _ in range(500):
+        for _ in range(600):
             bodies = plainplay.some_bodies(draw, plainsystem.MODES[:3], ("a", "b", "c"), ("x", "y"), 3)
             system = plainsystem.Plain([("m", ("m", "n")[:draw.randint(1, 2)], bodies)])
             if plainsystem.is_small(system, 100):
                 ends += self.look_at(draw, system)
-        self.assertGreater(ends, 50)
+        self.assertGreater(ends, 25)
 
     def test_all_that_can_still_come_begins_so(self):
         draw = plain.drawing(413)

@@ -105,12 +105,20 @@ class Drawn(unittest.TestCase):
     def test_delays_that_part_far_away(self):
         # The difference shows only behind a loop that the shortest way does not take.
         draw = plain.drawing(324)
-        found = []
-        for _ in range(400):
+        sizes = []
+        for _ in range(500):
             one = plainsystem.late_system(draw)
-            other = plainvariants.one_change(draw, plainvariants.said_early(draw, one))
-            found.append(self.look_at(one, other, 6))
-        self.assertGreater(len([row for row in found if row is not None and len(row) > 3]), 5)
+            other = plainvariants.variant(draw, one)
+            for _ in range(draw.randint(0, 2)):
+                other = plainvariants.one_change(draw, other)
+            try:
+                shortest = plainsystem.exact_parting(one, other, 20000)
+            except OverflowError:
+                continue
+            found = self.look_at(one, other, 2)
+            self.assertEqual(found if found is None else len(found), shortest, (one.books, other.books))
+            sizes.append(shortest)
+        self.assertGreater(len([size for size in sizes if size is not None and size > 3]), 10)
 
 
 class Few(unittest.TestCase):

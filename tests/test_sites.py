@@ -5,6 +5,7 @@ import unittest
 
 from onestroke.bodies import Body, Go, Press, Say, Times
 from onestroke.books import Book, Chain
+from onestroke.comparing import parted
 from onestroke.errors import (
     Endless, InvalidBodies, InvalidMode, InvalidPressed, InvalidStroke, NotABody, NotABook, OutOfRange, TooBig, TooMany, UnknownStroke,
     Unlike)
@@ -59,6 +60,9 @@ class Model:
             return Endless, lambda error: len(error.pressed) == endless_in(system) and system.run(error.pressed)[2] is None
         if like is not None:
             shortest = plainsystem.first_parting(system, like, 3)
+            if shortest is None and parted(made(book), like.made()) is not None:
+                # Too far away for this model: what parts them must do so, and not be too short.
+                return Unlike, lambda error: len(error.pressed) > 3 and system.counted(error.pressed) != like.counted(error.pressed)
             if shortest is not None:
                 return Unlike, lambda error: len(error.pressed) == shortest and system.counted(error.pressed) != like.counted(error.pressed)
         if most is not None:
@@ -188,7 +192,7 @@ class Drawn(unittest.TestCase):
                 what = self.step(draw, site, model)
                 seen[what] = seen.get(what, 0) + 1
                 self.same(site, model)
-        for what, least in (("edit", 300), ("undo", 100), ("redo", 30), ("range", 100), ("unknown", 10), ("Endless", 10), ("Unlike", 50),
+        for what, least in (("edit", 300), ("undo", 100), ("redo", 30), ("range", 100), ("unknown", 10), ("Endless", 5), ("Unlike", 50),
                             ("TooBig", 50), ("refused", 10)):
             self.assertGreater(seen.get(what, 0), least, what)
 
