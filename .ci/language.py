@@ -50,8 +50,6 @@ STATEMENTS = (
     ast.Assert, ast.Delete, ast.Nonlocal, ast.Match, ast.With, ast.Try, ast.Expr, ast.FunctionDef)
 AT_ONCE = {"zip", "enumerate", "reversed", "range", "items", "keys", "values"}
 TAKING = {"list", "tuple", "dict", "sorted", "sum", "any", "all", "enumerate", "zip", "min", "max", "len"}
-# Calls that lead from one walk to another one of another kind, and no further.
-BOUNDED = {("Course.entered", "stroke_from")}
 FOLDED = (ast.ListComp, ast.DictComp, ast.SetComp, ast.GeneratorExp)
 
 
@@ -446,7 +444,6 @@ class Package:
             owner = owners.get(id(node))
             inner = [call for call in ast.walk(node) if isinstance(call, ast.Call)]
             name = node.name if owner is None else f"{owner}.{node.name}"
-            inner = [call for call in inner if (name, name_of(call)) not in BOUNDED]
             calls[name] = set().union(*[self.named(owner, call) for call in inner])
         for name in sorted(calls):
             if name in reached(calls, name):

@@ -49,16 +49,15 @@ class Board:
         """Presses keys. Returns the row of what is handed over."""
         if not are_all_words(keys):
             raise InvalidWords(keys)
-        course = Course(row_of_words(keys), self._chart)
-        if course.end(self._state) is None:
-            everywhere = {state: True for state in states_of(self._system)}
-            raise NeverEnds(course.nodes[course.fall(self._state, everywhere)[1][0]])
+        course = Course(row_of_words(keys), self._chart, self._state)
+        if course.end() is None:
+            raise NeverEnds(course.fall({state: True for state in states_of(self._system)})[1])
         return self._go(course, len(keys))
 
     def press_row(self, row):
         """Presses the words of a row. Returns the row of what is handed over."""
-        course = Course(row, self._chart)
-        if course.end(self._state) is None:
+        course = Course(row, self._chart, self._state)
+        if course.end() is None:
             raise NeverEnds(row)
         return self._go(course, row.size)
 
@@ -76,7 +75,7 @@ class Board:
         loom = self._chart.loom
         strand = joined_strands(loom, self._chart.weaver.thread_at(index), self._certain.get(last))
         new = row_of_strand(loom, strand_behind(loom, strand, more))
-        self._state = course.end(self._state)
+        self._state = course.end()
         self._many = self._many + many
         self._handed = self._handed + new
         self._ahead = self._row_ahead()
@@ -86,11 +85,11 @@ class Board:
         """The index of what a course says as long as it goes through alive states, and the last one of them."""
         if self._state not in self._certain:
             return course.said([]), self._state
-        end = course.end(self._state)
+        end = course.end()
         if end in self._certain:
-            return course.said(course.whole(self._state)), end
-        parts, unit = course.fall(self._state, self._certain)
-        return course.said(parts), unit[1]
+            return course.said(course.whole()), end
+        parts, _, last = course.fall(self._certain)
+        return course.said(parts), last
 
 
 class NotedBoard(Board):

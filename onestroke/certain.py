@@ -67,10 +67,10 @@ def is_shown(chart, state, row, entry):
     """Whether both lists of an entry count from its state, and have exactly the row in common at the beginning."""
     ends = []
     for words in entry[1:]:
-        course = Course(row_of_words(words), chart)
-        end = course.end(state)
+        course = Course(row_of_words(words), chart, state)
+        end = course.end()
         if end is None or not is_at_rest(chart.system, end):
             return False
-        ends.append(chart.weaver.thread_at(course.said(course.whole(state))))
+        ends.append(chart.weaver.thread_at(course.said(course.whole())))
     many = common_in(chart.loom, ends[0], ends[1])
     return many == size_of(row) and common_in(chart.loom, ends[0], row) == many

@@ -20,7 +20,7 @@ class Chart:
 
     def stroke_from(self, state, key):
         """The index of what the stroke of a key says, and the state behind it; None if it never ends."""
-        told = self.player.press(modes_in(self.system, state), key)
+        told = self.player.stroke_of_word(modes_in(self.system, state), key)
         if told is None:
             return None
         return told[0], state_with(self.system, told[1])

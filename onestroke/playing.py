@@ -171,7 +171,7 @@ class Player:
             nodes = self.told[-1].script.nodes
         self.script = self.told[-1].script
 
-    def press(self, modes, word):
+    def stroke_of_word(self, modes, word):
         """What the stroke of a word says, as an index in the script, and the modes behind it; None if it never ends."""
         if word not in self.alphabet:
             return EMPTY, modes

@@ -44,32 +44,31 @@ def run(system, pressed, state=None):
     row = row_pressed(pressed)
     if state is not None:
         check_state(system, state)
-    start = first_of(system) if state is None else state
     chart = chart_of(system)
-    course = Course(row, chart)
-    end = course.end(start)
+    course = Course(row, chart, first_of(system) if state is None else state)
+    end = course.end()
     if end is None:
-        return endless_run(course, start)
-    index = course.said(course.whole(start))
+        return endless_run(course)
+    index = course.said(course.whole())
     if chart.size_at(index) > SIZE:
         raise TooLong(SIZE)
     return Ends(chart.row_told(index), end)
 
 
-def endless_run(course, start):
-    """The outcome of a pressed row with a stroke that never ends, from a state on."""
+def endless_run(course):
+    """The outcome of a pressed row with a stroke that never ends."""
     chart = course.chart
-    parts, (key, state) = course.fall(start, {state: True for state in states_of(chart.system)})
+    parts, key, state = course.fall({state: True for state in states_of(chart.system)})
     index = course.said(parts)
     if chart.size_at(index) > AHEAD:
         raise TooLong(SIZE)
-    never = outcome_of(chart.system, state, Stream([course.nodes[key]], 0, None))
+    never = outcome_of(chart.system, state, Stream([key], 0, None))
     return Never(chart.row_told(index) + never.front, never.ring)
 
 
 def counts(system, pressed):
     """Whether a pressed row counts."""
-    end = Course(row_pressed(pressed), chart_of(system)).end(first_of(system))
+    end = Course(row_pressed(pressed), chart_of(system), first_of(system)).end()
     return end is not None and is_at_rest(system, end)
 
 

@@ -67,11 +67,18 @@ class Walk:
         pairs = self.pairs_at(frame.unit[0])
         while frame.at < len(pairs):
             index, times = pairs[frame.at]
-            parts, state, needed = self.done_times(index, times, frame.now)
-            if needed is not None:
-                return needed
-            frame.parts.extend(parts)
-            frame.now = state
+            if times == 1:
+                unit = self.entered(index, frame.now)
+                if unit not in self.ends:
+                    return unit
+                frame.parts.append(((unit,), 1))
+                frame.now = self.ends[unit]
+            else:
+                parts, state, needed = self.done_times(index, times, frame.now)
+                if needed is not None:
+                    return needed
+                frame.parts.extend(parts)
+                frame.now = state
             frame.at = frame.at + 1
         return None
 
@@ -114,7 +121,12 @@ def singles(units):
 def turned(done, at, times):
     """The same as by done_times, where the units that are done from a place on come again and again."""
     ring = done[at:]
+    return turned_parts(done, at, times), ring[(times - at) % len(ring)][1], None
+
+
+def turned_parts(done, at, times):
+    """The parts of units that are done so many times, where those from a place on come again and again."""
+    ring = done[at:]
     whole = (times - at) // len(ring)
     rest = (times - at) % len(ring)
-    parts = singles(done[:at]) + [(tuple(ring), whole)] + singles(ring[:rest])
-    return parts, ring[rest][1], None
+    return singles(done[:at]) + [(tuple(ring), whole)] + singles(ring[:rest])
