@@ -28,7 +28,9 @@ class Goals:
             found[state] = []
             for key, index, many, after in self.strokes_at[state]:
                 if many <= limit:
-                    found[state].append((key, list(self.chart.row_told(index).listed()), after))
+                    row = self.chart.row_told(index)
+                    words = list(row.listed())
+                    found[state].append((key, words, after))
         return found
 
 

@@ -72,19 +72,19 @@ class Order:
         while not isinstance(self.contents[levels[-1][0]], str):
             levels.append(sorted(set([at for number in levels[-1] for at, _ in self.contents[number]])))
         tables = []
-        places = {}
+        ranks = {}
         for numbers in levels[::-1]:
-            letters = sorted([(self.placed(number, places), number) for number in numbers])
+            letters = sorted([(self.placed(number, ranks), number) for number in numbers])
             tables.append(tuple([letter for letter, _ in letters]))
-            places = {number: at for at, (_, number) in enumerate(letters)}
+            ranks = {number: at for at, (_, number) in enumerate(letters)}
         return tuple(tables)
 
-    def placed(self, number, places):
-        """A letter, of letters of the level below that are told by their places in their table."""
+    def placed(self, number, ranks):
+        """A letter, of letters of the level below that are told by their ranks in their table."""
         letter = self.contents[number]
         if isinstance(letter, str):
             return letter
-        return tuple([(places[at], times) for at, times in letter])
+        return tuple([(ranks[at], times) for at, times in letter])
 
 
 def unlike_at(one, other):

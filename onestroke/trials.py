@@ -10,13 +10,13 @@ class History:
         self.redos = []
         self.marks = []
         self.level = 0
-        # True within a block in which there was an edit, otherwise None.
-        self.edited = None
+        # None within a block in which there was an edit, otherwise True.
+        self.unedited = True
 
     def edit(self, book):
         """Makes another book the present one."""
         if self.level > 0:
-            self.edited = True
+            self.unedited = None
         else:
             self.undos.append(self.now)
             self.redos.clear()
@@ -49,7 +49,7 @@ class Trial:
         self.marks = history.marks
         self.level = 0
         self.begin = None
-        self.edited = None
+        self.unedited = True
         # True for a block within another one, and for a block that is to be kept; otherwise None.
         self.inner = None
         self.kept = None
@@ -62,7 +62,7 @@ class Trial:
         history = self.history
         self.level = history.level
         self.begin = history.now
-        self.edited = history.edited
+        self.unedited = history.unedited
         self.inner = True if history.level > 0 else None
         history.level = history.level + 1
         return self.site
@@ -70,13 +70,13 @@ class Trial:
     def __exit__(self, kind, value, trace):
         history = self.history
         history.level = self.level
-        if self.kept is not None and kind is None:
-            self.marks.append(("trial", True))
-            if self.inner is None and history.edited is not None:
-                self.undos.append(self.begin)
-                self.redos.clear()
-                history.edited = None
-        else:
+        if self.kept is None or kind is not None:
             self.marks.append(("trial", False))
             history.now = self.begin
-            history.edited = self.edited
+            history.unedited = self.unedited
+        else:
+            self.marks.append(("trial", True))
+            if self.inner is None and history.unedited is None:
+                self.undos.append(self.begin)
+                self.redos.clear()
+                history.unedited = True
