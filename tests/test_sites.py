@@ -1,6 +1,7 @@
 """Sites [50]: edits, guards, undoing and redoing, against a model that the test keeps for itself."""
 
 import itertools
+import time
 import unittest
 
 from onestroke.bodies import Body, Go, Press, Say, Times
@@ -13,6 +14,7 @@ from onestroke.limits import NUMBER
 from onestroke.pressing import run
 from onestroke.rows import Row
 from onestroke.sites import LoggedSite, Site
+from test_great_strokes import deep_bodies
 from values import ANY, NO_INTEGERS, refused
 import plain
 import plainplay
@@ -416,6 +418,18 @@ class Guards(unittest.TestCase):
             caught.exception.pressed.append("q")
         self.assertEqual(found, [["c", "q"], ["c", "q"]])
         self.assertIsNot(found[0], found[1])
+
+    def test_time(self):
+        began = time.perf_counter()
+        draw = plain.drawing(422)
+        bodies, order = deep_bodies(draw, 6, ("x", "y"))
+        book = plainplay.book_of(bodies, "a", ("a", "c"))
+        site = LoggedSite(book, ending=True, like=book, most=10 ** 800)
+        for mode, key in order[:2]:
+            site[mode, key] = Body(Times(1, *book[mode, key].entries[:3]), *book[mode, key].entries[3:]) if book[mode, key].depth < 2 else book[mode, key]
+        self.assertGreater(site([order[-1][1]]).row.size, 10 ** 100)
+        self.assertEqual(site.undoable, 2)
+        self.assertLess(time.perf_counter() - began, 60)
 
     def test_chains_are_no_books_of_sites(self):
         refused(self, NotABook, {"index": 0}, lambda: Site(Chain(example(), example())))
